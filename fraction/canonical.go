@@ -75,7 +75,7 @@ func add(x, y api.Rat) api.Rat {
 	// All that the sum and its denominator can have in common divides what the two denominators have in common.
 	left, right := floorOf(x.Den, g), floorOf(y.Den, g)
 	num, common := coprime(crossSum(x, right, y, left), g)
-	return api.Rat{Num: copiedInt(num), Den: integer.Mul(integer.Mul(left, right), common)}
+	return api.Rat{Num: num, Den: integer.Mul(integer.Mul(left, right), common)}
 }
 
 // crossSum returns the sum of the numerators of x and y, multiplied by a and b.

@@ -216,6 +216,16 @@ func TestTextAndParse(t *testing.T) {
 			t.Fatalf("Parse(%s): %d", want, code)
 		}
 	})
+	r := rand.New(rand.NewSource(7))
+	for range 1000 {
+		// A decimal text is exact, whatever was rounded to get it.
+		s := random(r).FloatString(1 + r.Intn(100))
+		x, code := fraction.Parse(s)
+		equal(t, s, x, bigRat(ofText(t, s)))
+		if code != api.OK {
+			t.Fatalf("Parse(%q): %d", s, code)
+		}
+	}
 	for _, c := range [][2]string{{"3/6", "1/2"}, {"-3/6", "-1/2"}, {"0/7", "0"}, {"-0.0", "0"}, {"0.0", "0"}, {"-12.50", "-25/2"}, {"0.001", "1/1000"}, {"-0.10", "-1/10"}, {"100.00", "100"}, {"12.34", "617/50"}} {
 		x, code := fraction.Parse(c[0])
 		equal(t, c[0], x, bigRat(ofText(t, c[1])))
